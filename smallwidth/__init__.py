@@ -1,0 +1,1 @@
+"""Smallwidth: formulas on graphs of small width."""

@@ -1,0 +1,64 @@
+"""The interface at the end of DOC.md: names, arguments, and their files.
+
+Each function and class is defined in the file under which it is listed, and
+each method in the class itself.
+"""
+
+import ast
+import importlib
+import inspect
+import unittest
+
+FUNCTIONS = {
+    "smallwidth.graph": {
+        "same": ["first", "second"],
+        "is_connected": ["graph"],
+        "part": ["graph", "vertices"],
+        "renumbered": ["graph", "order"],
+        "without": ["graph", "edge"],
+        "together": ["first", "second"],
+        "pieces": ["graph"],
+    },
+    "smallwidth.least": {"least_form": ["graph"], "all_graphs": ["size"]},
+}
+
+METHODS = {
+    ("smallwidth.graph", "Graph"): {
+        "__init__": ["self", "size", "edges"],
+        "has": ["self", "u", "v"],
+        "near": ["self", "u"],
+    },
+}
+
+
+def defined_in_file(module, kind):
+    with open(inspect.getsourcefile(module), encoding="utf-8") as file:
+        tree = ast.parse(file.read())
+    return [node.name for node in tree.body if isinstance(node, kind)]
+
+
+class InterfaceTest(unittest.TestCase):
+    def test_functions(self):
+        for name, functions in FUNCTIONS.items():
+            module = importlib.import_module(name)
+            here = defined_in_file(module, ast.FunctionDef)
+            for function, arguments in functions.items():
+                with self.subTest(f"{name}.{function}"):
+                    self.assertIn(function, here)
+                    found = inspect.signature(getattr(module, function))
+                    self.assertEqual(list(found.parameters), arguments)
+
+    def test_methods(self):
+        for (name, word), methods in METHODS.items():
+            module = importlib.import_module(name)
+            self.assertIn(word, defined_in_file(module, ast.ClassDef))
+            for method, arguments in methods.items():
+                with self.subTest(f"{name}.{word}.{method}"):
+                    own = vars(getattr(module, word))
+                    self.assertIn(method, own)
+                    found = inspect.signature(own[method])
+                    self.assertEqual(list(found.parameters), arguments)
+
+
+if __name__ == "__main__":
+    unittest.main()

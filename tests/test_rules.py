@@ -1,0 +1,102 @@
+"""The rules of LANGUAGE.md that can be counted: files, imports, sizes, words."""
+
+import ast
+import pathlib
+import unittest
+import warnings
+
+PACKAGE = pathlib.Path(__file__).resolve().parent.parent / "smallwidth"
+
+BUILTINS = set(
+    "len range enumerate zip min max sum abs sorted reversed int str bool list "
+    "tuple dict set frozenset isinstance ord repr any all divmod map iter next".split()
+)
+
+
+def files():
+    return sorted(PACKAGE.rglob("*.py"))
+
+
+def text_of(file):
+    return file.read_text(encoding="ascii")
+
+
+def tree_of(file):
+    return ast.parse(text_of(file))
+
+
+def imported(tree):
+    return [node for node in ast.walk(tree) if isinstance(node, ast.ImportFrom)]
+
+
+class RulesTest(unittest.TestCase):
+    def test_l1_nothing_but_python_files(self):
+        for path in sorted(PACKAGE.rglob("*")):
+            if "__pycache__" not in path.parts:
+                self.assertTrue(path.is_dir() or path.suffix == ".py", path)
+        self.assertIn(PACKAGE / "__init__.py", files())
+
+    def test_l2_imports(self):
+        library = {"heapq", "math", "itertools", "collections", "__future__"}
+        for file in files():
+            for node in ast.walk(tree_of(file)):
+                self.assertNotIsInstance(node, ast.Import, file)
+            for node in imported(tree_of(file)):
+                self.assertEqual(node.level, 0, file)
+                inside = node.module.startswith("smallwidth.")
+                self.assertTrue(inside or node.module in library, file)
+
+    def test_l8_builtins(self):
+        import builtins
+        barred = set(vars(builtins)) - BUILTINS
+        errors = {
+            name for name, value in vars(builtins).items()
+            if isinstance(value, type) and issubclass(value, BaseException)
+        }
+        barred -= errors | {"True", "False", "None", "NotImplemented", "super"}
+        for file in files():
+            for node in ast.walk(tree_of(file)):
+                if isinstance(node, ast.Name):
+                    self.assertNotIn(node.id, barred, file)
+
+    def test_l10_sizes(self):
+        for file in files():
+            lines = text_of(file).splitlines()
+            self.assertLessEqual(len(lines), 399, file)
+            self.assertLessEqual(max(map(len, lines), default=0), 120, file)
+            for node in ast.walk(tree_of(file)):
+                if isinstance(node, ast.FunctionDef):
+                    many = node.end_lineno - node.lineno + 1
+                    self.assertLessEqual(many, 40, f"{file}: {node.name}")
+
+    def test_l14_characters(self):
+        for file in files():
+            wrong = [c for c in text_of(file) if c != "\n" and not " " <= c <= "~"]
+            self.assertEqual(wrong, [], file)
+
+    def test_l15_names_are_bound_once_and_not_after_imports(self):
+        for file in files():
+            tree = tree_of(file)
+            names = [alias.name for node in imported(tree) for alias in node.names]
+            taken = list(names)
+            for node in tree.body:
+                if isinstance(node, (ast.FunctionDef, ast.ClassDef)):
+                    taken.append(node.name)
+                if isinstance(node, ast.Assign):
+                    taken.extend(target.id for target in node.targets)
+            self.assertEqual(len(taken), len(set(taken)), file)
+            for node in ast.walk(tree):
+                if isinstance(node, ast.arg):
+                    self.assertNotIn(node.arg, names, file)
+                if isinstance(node, ast.Name) and isinstance(node.ctx, ast.Store):
+                    self.assertNotIn(node.id, names, file)
+
+    def test_l27_no_line_that_python_warns_of(self):
+        for file in files():
+            with warnings.catch_warnings():
+                warnings.simplefilter("error")
+                compile(text_of(file), str(file), "exec")
+
+
+if __name__ == "__main__":
+    unittest.main()
