@@ -1,6 +1,6 @@
 """Graphs, and what is made of them."""
 
-from smallwidth.errors import BadGraph
+from smallwidth.errors import BadGraph, TooLarge
 
 MOST_VERTICES = 60
 
@@ -21,6 +21,18 @@ def is_edge(value, size):
         return False
     u, v = value
     return is_vertex(u, size) and is_vertex(v, size) and u < v
+
+
+def is_ascending(value, size):
+    """Whether a value is an ascending tuple of vertices, for this size."""
+    if not isinstance(value, tuple):
+        return False
+    least = 0
+    for vertex in value:
+        if not is_vertex(vertex, size) or vertex < least:
+            return False
+        least = vertex + 1
+    return True
 
 
 class Graph:
@@ -118,30 +130,43 @@ def together(first, second):
 
 def pieces(graph):
     """The connected components, as ascending lists of vertices."""
-    seen = set()
+    return pieces_without(graph, ())
+
+
+def pieces_without(graph, gone):
+    """The connected components of the graph without some vertices."""
+    seen = {vertex: True for vertex in gone}
     found = []
     for start in range(graph.size):
         if start not in seen:
-            piece = reached(graph, start)
-            found.append(piece)
-            for vertex in piece:
-                seen.add(vertex)
+            found.append(reached(graph, start, seen))
     return found
 
 
-def reached(graph, start):
-    """The vertices to which a path leads from a vertex, in ascending order."""
-    seen = {start}
+def reached(graph, start, seen):
+    """The vertices to which a path leads past those seen, in ascending order.
+
+    They are entered among those seen.
+    """
+    seen[start] = True
     waiting = [start]
+    piece = []
     while waiting:
         vertex = waiting.pop()
+        piece.append(vertex)
         for other in graph.near(vertex):
             if other not in seen:
-                seen.add(other)
+                seen[other] = True
                 waiting.append(other)
-    return sorted(seen)
+    return sorted(piece)
 
 
 def is_connected(graph):
     """Whether there is at most one connected component."""
     return len(pieces(graph)) <= 1
+
+
+def check_at_most(graph, most):
+    """Raises TooLarge if a graph has more vertices than that."""
+    if graph.size > most:
+        raise TooLarge(f"this is told for at most {most} vertices")

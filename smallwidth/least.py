@@ -1,15 +1,13 @@
 """Least forms: one graph for all those that are alike."""
 
-from smallwidth.errors import TooLarge
-from smallwidth.graph import Graph
+from smallwidth.graph import Graph, check_at_most
 
 MOST_IN_LEAST_FORM = 7
 
 
 def least_form(graph):
     """The graph with the least tuple of edges, of all that are alike."""
-    if graph.size > MOST_IN_LEAST_FORM:
-        raise TooLarge("a least form is told for at most 7 vertices")
+    check_at_most(graph, MOST_IN_LEAST_FORM)
     return Graph(graph.size, least_edges(graph))
 
 

@@ -51,3 +51,19 @@ def least_by_trying(graph):
         if best is None or edges < best:
             best = edges
     return best
+
+
+def pieces_by_merging(graph, gone=()):
+    """The components of the graph without some vertices, by giving names."""
+    name = {v: v for v in range(graph.size) if v not in gone}
+    for u, v in graph.edges:
+        if u in name and v in name:
+            old, new = name[v], name[u]
+            name = {w: new if name[w] == old else name[w] for w in name}
+    return sorted(tuple(v for v in name if name[v] == word) for word in set(name.values()))
+
+
+def some_graph(source, size):
+    """A graph of this size, chosen at random."""
+    share = source.random()
+    return Graph(size, [pair for pair in every_pair(size) if source.random() < share])

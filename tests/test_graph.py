@@ -3,7 +3,9 @@
 import unittest
 from itertools import permutations
 
-from graph_helpers import circle, every_graph, every_pair, full, path, picture
+from graph_helpers import (
+    circle, every_graph, every_pair, full, path, picture, pieces_by_merging,
+)
 from smallwidth.errors import BadGraph
 from smallwidth.graph import (
     Graph, is_connected, part, pieces, renumbered, same, together, without,
@@ -267,7 +269,7 @@ class PiecesTest(unittest.TestCase):
 
     def test_pieces_of_all_small_graphs(self):
         for graph in every_graph(5):
-            self.assertEqual(pieces(graph), pieces_by_merging(graph))
+            self.assertEqual(pieces(graph), [list(piece) for piece in pieces_by_merging(graph)])
 
     def test_is_connected(self):
         self.assertIs(is_connected(Graph(0, [])), True)
@@ -282,13 +284,6 @@ class PiecesTest(unittest.TestCase):
         for size, many in ((0, 1), (1, 1), (2, 1), (3, 4), (4, 38), (5, 728)):
             found = [graph for graph in every_graph(size) if is_connected(graph)]
             self.assertEqual(len(found), many)
-
-
-def pieces_by_merging(graph):
-    name = list(range(graph.size))
-    for u, v in graph.edges:
-        name = [name[u] if other == name[v] else other for other in name]
-    return sorted([v for v in range(graph.size) if name[v] == word] for word in set(name))
 
 
 class NothingChangesTest(unittest.TestCase):

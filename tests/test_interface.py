@@ -20,6 +20,29 @@ FUNCTIONS = {
         "pieces": ["graph"],
     },
     "smallwidth.least": {"least_form": ["graph"], "all_graphs": ["size"]},
+    "smallwidth.graphtext": {"graph_text": ["graph"], "graph_of": ["text"]},
+    "smallwidth.terms": {
+        "check_term": ["term", "k"],
+        "made": ["term", "k"],
+        "operands": ["term", "k"],
+        "ended": ["term", "k"],
+        "joined": ["first", "second"],
+        "most_labels": ["term", "k"],
+    },
+    "smallwidth.bags": {
+        "fault": ["graph", "bags", "parents"],
+        "width_of": ["bags"],
+        "bags_of": ["term", "k"],
+        "term_of": ["graph", "bags", "parents", "k"],
+    },
+    "smallwidth.width": {
+        "components": ["graph", "without"],
+        "order_width": ["graph", "order"],
+        "width": ["graph"],
+        "bags_of_order": ["graph", "order"],
+        "decomposition": ["graph"],
+        "least_order": ["graph"],
+    },
 }
 
 METHODS = {
