@@ -43,6 +43,20 @@ FUNCTIONS = {
         "decomposition": ["graph"],
         "least_order": ["graph"],
     },
+    "smallwidth.bramble": {
+        "is_bramble": ["graph", "sets"],
+        "cover": ["graph", "sets"],
+        "bramble": ["graph"],
+        "haven": ["graph", "sets", "standing"],
+        "strength": ["graph", "sets"],
+        "meeting_bag": ["bags", "sets"],
+    },
+    "smallwidth.formula": {
+        "is_formula": ["value"],
+        "depth": ["formula"],
+        "rank": ["formula"],
+        "free": ["formula"],
+    },
 }
 
 METHODS = {
@@ -50,6 +64,13 @@ METHODS = {
         "__init__": ["self", "size", "edges"],
         "has": ["self", "u", "v"],
         "near": ["self", "u"],
+    },
+    ("smallwidth.cops", "Chase"): {
+        "__init__": ["self", "graph", "cops"],
+        "rank": ["self", "standing", "region"],
+        "after": ["self", "standing", "region", "move"],
+        "best": ["self", "standing", "region"],
+        "caught": ["self"],
     },
 }
 
