@@ -65,9 +65,8 @@ class Chase:
         if word == "lift":
             left = tuple([other for other in standing if other != vertex])
             return [(left, one) for one in self._regions[left] if region[0] in one]
+        # A region without this vertex is itself the only one that is left.
         more = tuple(sorted([*standing, vertex]))
-        if vertex not in region:
-            return [(more, region)]
         return [(more, one) for one in self._regions[more] if one[0] in region]
 
     def _move_below(self, standing, region, limit):

@@ -66,6 +66,8 @@ class IsFormulaTest(unittest.TestCase):
             ["v", 0], ("v",), ("v", 0, 0), (), (0, "v"), "v0", ("w", 0), ("", 0), ("vV", 0),
             (b"v", 0), (None, 0), (0, 0), (("v", 0),), {"v": 0}, ("eV", 1), (["v"], 0),
         ]
+        wrong += [(value, 0) for value in STRANGE]
+        wrong += [("v", value) for value in STRANGE if value is True or not isinstance(value, int)]
         for value in wrong + STRANGE:
             for word in ("some", "all"):
                 self.assertIs(is_formula((word, value, TRUE)), False)

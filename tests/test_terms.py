@@ -73,6 +73,14 @@ class CheckTest(unittest.TestCase):
         self.assertEqual(check_term(again, 2), ((0, 1, 2), ((0, 1), (0, 2))))
         self.assert_wrong(again + (("edge", 0, 2),), 2, 10)
 
+    def test_pairs_of_a_join_ascend(self):
+        three = (EMPTY, ("new", 0), ("new", 1), ("new", 2))
+        lower = three + (("edge", 0, 2), ("edge", 1, 2))
+        upper = three + (("edge", 0, 1),)
+        for first, second in ((lower, upper), (upper, lower)):
+            found = check_term(first + second + (JOIN,), 2)
+            self.assertEqual(found, ((0, 1, 2), ((0, 1), (0, 2), (1, 2))))
+
     def test_labels_ascend_as_numbers_do(self):
         labels = (10, 2, 12, 0, 9)
         term = (EMPTY,) + tuple(("new", i) for i in labels) + (("edge", 2, 10), ("edge", 2, 9))
