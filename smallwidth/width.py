@@ -87,11 +87,12 @@ def least_order(graph):
 
 def next_in_order(near, widths, taken):
     """The least vertex by which an order of the graph's width can go on."""
+    fitting = []
     for vertex, around in enumerate(near):
         more = taken | 1 << vertex
         if more != taken and max(size_of(around), widths[more]) <= widths[0]:
-            return vertex
-    return None
+            fitting.append(vertex)
+    return fitting[0]
 
 
 def graphs_left(graph):

@@ -206,12 +206,16 @@ class WrongTextTest(unittest.TestCase):
         graphs = [graph for size in range(4) for graph in every_graph(size)]
         graphs += [full(4), path(4), circle(4), Graph(4, [(1, 2), (2, 3)])]
         graphs += [Graph(12, [(1, 10), (9, 11)]), Graph(60, [(5, 59)])]
+        texts = {graph_text(graph) for size in range(5) for graph in every_graph(size)}
+        found = beginnings()
         tried = {}
         for graph in graphs:
             for text in changes(graph_text(graph)):
                 tried[text] = True
         for text in tried:
             line = wrong_line(text)
+            if FIRST_LINES.get(text.split("\n")[0], (5, 0))[0] < 5:
+                self.assertEqual(line, wrong_line_by_search(text, found, texts))
             if line is None:
                 self.assertEqual(graph_text(graph_of(text)), text)
             else:
