@@ -57,6 +57,29 @@ FUNCTIONS = {
         "rank": ["formula"],
         "free": ["formula"],
     },
+    "smallwidth.truth": {
+        "holds": ["graph", "formula", "values"],
+        "values_of": ["graph", "sort"],
+        "satisfying": ["graph", "formula", "variable"],
+    },
+    "smallwidth.known": {
+        "independent": ["variable"],
+        "dominating": ["variable"],
+        "colourable": ["count"],
+        "closed": ["variable"],
+        "connected": [],
+        "matching": ["variable"],
+    },
+    "smallwidth.formulatext": {"formula_text": ["formula"], "formula_of": ["text"]},
+    "smallwidth.states": {
+        "first_state": ["formula"],
+        "with_vertex": ["formula", "full", "label", "chosen"],
+        "with_edge": ["formula", "full", "first", "second", "chosen"],
+        "forgotten": ["formula", "full", "label"],
+        "joined": ["formula", "first", "second"],
+        "truth": ["formula", "full"],
+        "term_state": ["formula", "term", "k"],
+    },
 }
 
 METHODS = {
