@@ -80,6 +80,24 @@ FUNCTIONS = {
         "truth": ["formula", "full"],
         "term_state": ["formula", "term", "k"],
     },
+    "smallwidth.tables": {"parting": ["table", "c", "d"]},
+    "smallwidth.apart": {
+        "least_of": ["table"],
+        "difference": ["first", "second", "k"],
+        "alike": ["first", "second", "k"],
+    },
+    "smallwidth.answers": {
+        "answer": ["graph", "tree", "formula"],
+        "count": ["graph", "tree", "formula"],
+        "sizes": ["graph", "tree", "formula"],
+        "best": ["graph", "tree", "formula", "greatest"],
+    },
+    "smallwidth.allgraphs": {
+        "failing": ["formula", "k"],
+        "parting_graph": ["first", "second", "k"],
+        "orders": ["formula", "k", "most"],
+        "first_graphs": ["formula", "k", "count"],
+    },
 }
 
 METHODS = {
@@ -94,6 +112,14 @@ METHODS = {
         "after": ["self", "standing", "region", "move"],
         "best": ["self", "standing", "region"],
         "caught": ["self"],
+    },
+    ("smallwidth.tables", "Table"): {
+        "__init__": ["self", "formula", "k"],
+        "frame": ["self", "c"],
+        "holds": ["self", "c"],
+        "after": ["self", "c", "step"],
+        "both": ["self", "c", "d"],
+        "of": ["self", "term"],
     },
 }
 

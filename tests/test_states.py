@@ -19,6 +19,7 @@ from state_helpers import (
     world_of, world_of_marked,
 )
 from term_helpers import EMPTY, JOIN, STRANGE, play, some_term
+from ways_helpers import ways_of
 
 X, Y = ("v", 0), ("v", 1)
 E, F = ("e", 0), ("e", 1)
@@ -44,50 +45,6 @@ TERMS = [
      ("forget", 0), ("new", 0), ("edge", 0, 1)),
     (EMPTY, ("new", 0), ("forget", 0), EMPTY, ("new", 1), ("forget", 1), JOIN, ("new", 1)),
 ]
-
-
-def first_ways(formula):
-    """How many values lead to each full state of the empty graph."""
-    return Counter([first_state(formula)])
-
-
-def ways_after(formula, ways, step):
-    """The full states behind a step, and how many values lead to each."""
-    found = Counter()
-    for full, many in ways.items():
-        if step[0] == "forget":
-            found[forgotten(formula, full, step[1])] += many
-            continue
-        function = with_vertex if step[0] == "new" else with_edge
-        for chosen in product((False, True), repeat=len(full[0])):
-            behind = function(formula, full, *step[1:], chosen)
-            if behind is not None:
-                found[behind] += many
-    return found
-
-
-def ways_joined(formula, first, second):
-    found = Counter()
-    for one, other in product(first, second):
-        both = joined(formula, one, other)
-        if both is not None:
-            found[both] += first[one] * second[other]
-    return found
-
-
-def ways_of(formula, term):
-    """For each step of a term, the full states and how many lead there."""
-    stack, found = [], []
-    for step in term:
-        if step == EMPTY:
-            stack.append(first_ways(formula))
-        elif step == JOIN:
-            upper = stack.pop()
-            stack.append(ways_joined(formula, stack.pop(), upper))
-        else:
-            stack.append(ways_after(formula, stack.pop(), step))
-        found.append(stack[-1])
-    return found
 
 
 def ways_by_definition(formula, world):
@@ -341,7 +298,12 @@ class TooManyTest(unittest.TestCase):
             tuple(label for label in labels if number >> label & 1) for number in range(1500)
         )
         full = ((), ("many", tuple((mark, OPEN) for mark in marks)))
-        self.assertEqual(len(with_vertex(formula, full, 12, ())[1][1]), 3000)
+        most = with_vertex(formula, full, 12, ())
+        self.assertEqual(len(most[1][1]), 3000)
+        self.assertEqual(forgotten(formula, most, 11), most)
+        more = ((), ("many", tuple(sorted(most[1][1] + (((0, 11), OPEN),)))))
+        with self.assertRaises(TooMany):
+            with_edge(formula, more, 0, 1, ())
         marks = sorted(marks + [(0, 11)])
         full = ((), ("many", tuple((mark, OPEN) for mark in marks)))
         with self.assertRaises(TooMany):
