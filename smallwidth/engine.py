@@ -10,6 +10,8 @@ from smallwidth.marks import continuations, first_mark, fitting, is_here
 from smallwidth.parts import numbered_parts
 
 MOST_PAIRS = 3000
+
+# The settled states have numbers below that of the open one.
 YES = 0
 NO = 1
 OPEN = 2
@@ -33,6 +35,7 @@ class Engine:
         self._behind = {}
         self._joins = {}
         self._truths = {}
+        self._with_marks = {}
         # The ways in which a step touches the values of several variables
         # are kept in one number, with two bits for each variable.
         self._shifts = shifts_of(self.parts)
@@ -54,7 +57,7 @@ class Engine:
 
     def after(self, at, state, step, touches):
         """The state of a part behind a step that so touches its values."""
-        if state in (YES, NO):
+        if state < OPEN:
             return state
         key = (at, state, step, touches & self._masks[at])
         if key not in self._behind:
@@ -83,38 +86,46 @@ class Engine:
 
     def joined(self, at, first, second):
         """The state of a part in the join of two graphs."""
-        if first in (YES, NO):
+        if first < OPEN:
             return first
-        if second in (YES, NO):
+        if second < OPEN:
             return second
-        part = self.parts[at]
-        if part.word in ATOMS:
+        # Only atoms, and "not" of them, are open: then both states are.
+        if first == OPEN:
             return OPEN
-        key = (at, min(first, second), max(first, second))
+        key = (at, first, second) if first < second else (at, second, first)
         if key not in self._joins:
-            self._joins[key] = self._found_joined(part, first, second)
+            self._joins[key] = self._found_joined(self.parts[at], first, second)
         return self._joins[key]
 
     def _found_joined(self, part, first, second):
-        """What `joined` tells of what is no atom, and neither yes nor no."""
+        """What `joined` tells of what is neither settled nor open."""
         if part.bound_sort is None:
             left, right = self.states_in(part, first), self.states_in(part, second)
             found = [self.joined(at, s, t) for at, s, t in zip(part.inner, left, right)]
             return self._combined(part.word, found)
-        with_mark = {}
-        for mark, one in self.pairs_in(second):
-            with_mark.setdefault(mark, []).append(one)
+        with_mark = self._states_with_marks(second)
         before = self.pairs_in(first)
+        at = part.inner[0]
         pairs = {}
         for mark, one in before:
             for fit, whole in fitting(part.bound_sort, mark):
-                for other in with_mark.get(fit, []):
-                    pairs[(whole, self.joined(part.inner[0], one, other))] = True
+                for other in with_mark.get(fit, ()):
+                    pairs[(whole, self.joined(at, one, other))] = True
         return self._many(part, pairs)
+
+    def _states_with_marks(self, state):
+        """The states in a "many", as a list for each mark."""
+        if state not in self._with_marks:
+            found = {}
+            for mark, one in self.pairs_in(state):
+                found.setdefault(mark, []).append(one)
+            self._with_marks[state] = found
+        return self._with_marks[state]
 
     def holds(self, at, state):
         """Whether a part holds if nothing more comes to the graph."""
-        if state in (YES, NO):
+        if state < OPEN:
             return state == YES
         part = self.parts[at]
         if part.word in ATOMS:

@@ -85,9 +85,10 @@ class TableTest(unittest.TestCase):
             self.check_table(formula, 2)
 
     def test_three(self):
-        table = Table(SOME, 3)
-        self.assertEqual(table.kinds, 114)
-        self.check_frames(table)
+        self.check_table(SOME, 3)
+        self.check_table(EDGE, 3)
+        self.assertEqual(Table(SOME, 3).kinds, 114)
+        self.check_frames(Table(SOME, 3))
 
     def check_frames(self, table):
         for c in range(table.size):
