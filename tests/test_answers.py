@@ -106,6 +106,22 @@ def independent_by_size(many):
     return (found + [0] * many)[:many + 1]
 
 
+def matchings_of_tree(many):
+    """The number of matchings of the tree above, from below."""
+    def below(v):
+        # Those that leave v free, and those in which v has an edge below it.
+        free_ones, others = 1, 0
+        for child in (2 * v + 1, 2 * v + 2):
+            if child < many:
+                free_child, other_child = below(child)
+                total = free_child + other_child
+                others = others * total + free_ones * free_child
+                free_ones *= total
+        return free_ones, others
+
+    return sum(below(0))
+
+
 def lucas(many):
     """The number of independent sets, and of matchings, of a ring."""
     a, b = 2, 1
@@ -271,6 +287,7 @@ class LongTest(unittest.TestCase):
             numbers = independent_by_size(many)
             self.assertEqual(sizes(graph, tree, independent(SET)), numbers)
             self.assertEqual(count(graph, tree, independent(SET)), sum(numbers))
+            self.assertEqual(count(graph, tree, matching(EDGES)), matchings_of_tree(many))
             greatest = max(size for size, number in enumerate(numbers) if number)
             size, members = best(graph, tree, independent(SET), True)
             self.assertEqual(size, greatest)

@@ -91,6 +91,16 @@ class RulesTest(unittest.TestCase):
                 if isinstance(node, ast.Name) and isinstance(node.ctx, ast.Store):
                     self.assertNotIn(node.id, names, file)
 
+    def test_l26_names_of_attributes(self):
+        barred = set(
+            "items keys values pop update append clear extend insert remove reverse "
+            "setdefault sort args encode decode hex fromhex format mro".split()
+        )
+        for file in files():
+            for node in ast.walk(tree_of(file)):
+                if isinstance(node, ast.Attribute) and isinstance(node.ctx, ast.Store):
+                    self.assertNotIn(node.attr, barred, file)
+
     def test_l27_no_line_that_python_warns_of(self):
         for file in files():
             with warnings.catch_warnings():
