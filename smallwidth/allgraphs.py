@@ -40,7 +40,7 @@ def numbers_of_vertices(table, most):
 
     The numbers are put together as masks.py does it with vertices.
     """
-    allowed = mask_of(range(most + 1))
+    allowed = mask_of(list(range(most + 1)))
     found = [0] * table.size
     new = [0] * table.size
     new[0] = allowed & 1
